@@ -1,0 +1,1 @@
+"""Turnindex: indexes by transforms."""

@@ -1,0 +1,88 @@
+"""What the arguments of the package have to be, and the errors if they are not."""
+
+from turnindex.errors import NoCounts, NoNumber, NoRow, NoText
+
+END = "$"
+LETTERS = "abcdefghijklmnopqrstuvwxyz"
+MOST_LETTERS = 300
+
+
+def is_text(value):
+    """Tell whether the value is a text, also the empty one."""
+    return isinstance(value, str) and all([sign in LETTERS for sign in value])
+
+
+def is_word(value):
+    """Tell whether the value is a text that is not empty."""
+    return is_text(value) and len(value) > 0
+
+
+def is_letter(value):
+    """Tell whether the value is a text of one letter."""
+    return is_text(value) and len(value) == 1
+
+
+def is_row(value):
+    """Tell whether the value is a row of letters and ends."""
+    return isinstance(value, str) and all([sign == END or sign in LETTERS for sign in value])
+
+
+def is_number(value, least):
+    """Tell whether the value is an integer from the least one on."""
+    return isinstance(value, int) and not isinstance(value, bool) and value >= least
+
+
+def is_counts(value):
+    """Tell whether the value is a dict from letters to how many there are."""
+    if not isinstance(value, dict):
+        return False
+    for letter, many in value.items():
+        if not is_letter(letter) or not is_number(many, 0):
+            return False
+    return sum(value.values()) <= MOST_LETTERS
+
+
+def check_text(text):
+    """Raise NoText if this is no text."""
+    if not is_text(text):
+        raise NoText(text)
+
+
+def check_word(word):
+    """Raise NoText if this is no text or the empty one."""
+    if not is_word(word):
+        raise NoText(word)
+
+
+def check_texts(texts):
+    """Raise NoText if this is no tuple, or of the first thing in it that is no text."""
+    if not isinstance(texts, tuple):
+        raise NoText(texts)
+    for text in texts:
+        check_text(text)
+
+
+def check_words(words):
+    """Raise NoText if this is no tuple, or of the first thing in it that is no text or empty."""
+    if not isinstance(words, tuple):
+        raise NoText(words)
+    for word in words:
+        check_word(word)
+
+
+def check_row(row):
+    """Raise NoRow if this is no row."""
+    if not is_row(row):
+        raise NoRow(row)
+
+
+def check_number(number, least):
+    """Raise NoNumber if this is no integer from the least one on."""
+    if not is_number(number, least):
+        raise NoNumber(number)
+
+
+def check_counts(counts):
+    """Raise NoCounts if these are no counts."""
+    if not is_counts(counts):
+        raise NoCounts(counts)
