@@ -59,13 +59,17 @@ def sign_ahead(thing):
     return word[place - 1]
 
 
-def plain_row(texts, rings):
-    """The row of all suffixes of the texts and all turns of the rings."""
+def sorted_things(texts, rings):
+    """All suffixes of the texts and all turns of the rings, in their order."""
     things = [("suffix", text, j, i) for j, text in enumerate(texts) for i in range(len(text) + 1)]
     things += [("turn", ring, 0, i) for ring in rings for i in range(len(ring))]
     limit = 2 * (sum(map(len, texts)) + sum(map(len, rings))) + 2
-    ordered = sorted(things, key=cmp_to_key(lambda one, other: compare(one, other, limit)))
-    return "".join(map(sign_ahead, ordered))
+    return sorted(things, key=cmp_to_key(lambda one, other: compare(one, other, limit)))
+
+
+def plain_row(texts, rings):
+    """The row of all suffixes of the texts and all turns of the rings."""
+    return "".join(map(sign_ahead, sorted_things(texts, rings)))
 
 
 def plain_steps(row):

@@ -22,6 +22,16 @@ BARRED_NODES = (
     ast.Import, ast.Global, ast.AsyncFunctionDef, ast.AsyncFor, ast.AsyncWith, ast.Await, ast.Div, ast.MatMult,
     ast.TryStar,
 )
+KEYWORDS = {
+    "sorted": {"key", "reverse"}, "min": {"key", "default"}, "max": {"key", "default"}, "sum": {"start"},
+    "enumerate": {"start"}, "zip": {"strict"},
+}
+METHODS = set(
+    "append clear copy count endswith extend find get index insert isalnum isalpha isdigit islower isspace isupper"
+    " items join keys ljust lower lstrip partition pop remove replace reverse rfind rjust rpartition rsplit rstrip"
+    " setdefault split splitlines startswith strip update upper values zfill bit_length add discard".split()
+)
+SPECIAL_METHODS = {"__init__", "__eq__", "__repr__", "__str__", "__len__"}
 BARRED_NAMES = {
     "register", "mro", "elements", "open", "input", "law", "attrgetter", "breakpoint", "compile", "dir", "eval",
     "exec", "exit", "gc", "getattr", "setattr", "delattr", "hasattr", "help", "id", "locals", "globals", "vars",
@@ -114,6 +124,49 @@ class FormTest(unittest.TestCase):
                 self.assertNotIn(name, BARRED_NAMES, where)
                 self.assertNotIn(name, vars(builtins), where)
                 self.assertTrue(re.match("^(_?[A-Za-z][A-Za-z0-9_]*|_|__[a-z]+__)$", name), where)
+
+    def test_no_local_name_hides_an_import_or_a_class(self):
+        for file, tree in self.trees.items():
+            top = [node for node in tree.body if isinstance(node, (ast.ImportFrom, ast.ClassDef))]
+            taken = {node.name for node in top if isinstance(node, ast.ClassDef)}
+            taken |= {name.name for node in top if isinstance(node, ast.ImportFrom) for name in node.names}
+            for node in ast.walk(tree):
+                if node not in top:
+                    self.assertFalse(taken & set(names_bound(node)), f"{file}:{getattr(node, 'lineno', 0)}")
+
+    def test_methods_that_are_called(self):
+        own = {node.name for _, node in self.nodes(ast.FunctionDef)}
+        for where, node in self.nodes(ast.Call):
+            if isinstance(node.func, ast.Attribute):
+                self.assertIn(node.func.attr, METHODS | own, where)
+                self.assertEqual(node.keywords, [], where)
+            elif node.func.id in vars(builtins):
+                self.assertLessEqual({one.arg for one in node.keywords}, KEYWORDS.get(node.func.id, set()), where)
+
+    def test_methods_that_are_defined(self):
+        for where, node in self.nodes(ast.FunctionDef):
+            if node.name.startswith("__"):
+                self.assertIn(node.name, SPECIAL_METHODS, where)
+
+    def test_no_generators(self):
+        # beside a class with an __eq__ of its own, these are allowed in few places only
+        for where, node in self.nodes():
+            self.assertNotIsInstance(node, (ast.GeneratorExp, ast.Yield, ast.YieldFrom), where)
+
+    def test_sets_are_used_on_the_spot(self):
+        allowed = set()
+        for _, node in self.nodes(ast.Call):
+            if isinstance(node.func, ast.Name) and node.func.id in ("sorted", "len") and not node.keywords:
+                allowed |= {id(one) for one in node.args}
+        for where, node in self.nodes(ast.Set, ast.SetComp, ast.Call):
+            if not isinstance(node, ast.Call) or isinstance(node.func, ast.Name) and node.func.id == "set":
+                self.assertIn(id(node), allowed, where)
+
+    def test_is_stands_beside_none_alone(self):
+        for where, node in self.nodes(ast.Compare):
+            for sign, other in zip(node.ops, node.comparators):
+                if isinstance(sign, (ast.Is, ast.IsNot)):
+                    self.assertIn(ast.unparse(other), ("None", "True", "False"), where)
 
     def test_no_two_files_import_from_each_other(self):
         imported = {

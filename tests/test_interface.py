@@ -23,6 +23,22 @@ FUNCTIONS = {
         "rings_number": ["counts"],
         "turns_number": ["counts"],
     },
+    "turnindex.ends": {
+        "ends_of": ["word"],
+        "rings_by_end": ["word"],
+    },
+    "turnindex.falling": {
+        "falling": ["text"],
+        "falling_row": ["text"],
+        "falling_text": ["row"],
+    },
+    "turnindex.orders": {
+        "order_of": ["text"],
+        "drops": ["order"],
+        "least_text": ["order"],
+        "orders_number": ["order", "letters"],
+        "has_order": ["text", "order"],
+    },
 }
 
 

@@ -1,6 +1,6 @@
 """What the arguments of the package have to be, and the errors if they are not."""
 
-from turnindex.errors import NoCounts, NoNumber, NoRow, NoText
+from turnindex.errors import NoCounts, NoNumber, NoOrder, NoRow, NoText
 
 END = "$"
 LETTERS = "abcdefghijklmnopqrstuvwxyz"
@@ -32,6 +32,11 @@ def is_number(value, least):
     return isinstance(value, int) and not isinstance(value, bool) and value >= least
 
 
+def is_number_between(value, least, greatest):
+    """Tell whether the value is an integer from the least one to the greatest one."""
+    return is_number(value, least) and value <= greatest
+
+
 def is_counts(value):
     """Tell whether the value is a dict from letters to how many there are."""
     if not isinstance(value, dict):
@@ -40,6 +45,13 @@ def is_counts(value):
         if not is_letter(letter) or not is_number(many, 0):
             return False
     return sum(value.values()) <= MOST_LETTERS
+
+
+def is_order(value):
+    """Tell whether the value is a tuple in which 0 to n - 1 stand once."""
+    if not isinstance(value, tuple) or not all([is_number(place, 0) for place in value]):
+        return False
+    return sorted(value) == list(range(len(value)))
 
 
 def check_text(text):
@@ -82,7 +94,19 @@ def check_number(number, least):
         raise NoNumber(number)
 
 
+def check_number_between(number, least, greatest):
+    """Raise NoNumber if this is no integer from the least one to the greatest one."""
+    if not is_number_between(number, least, greatest):
+        raise NoNumber(number)
+
+
 def check_counts(counts):
     """Raise NoCounts if these are no counts."""
     if not is_counts(counts):
         raise NoCounts(counts)
+
+
+def check_order(order):
+    """Raise NoOrder if this is no order."""
+    if not is_order(order):
+        raise NoOrder(order)
