@@ -3,6 +3,8 @@
 import unittest
 
 from turnindex import errors
+from turnindex.indexes import Index
+from turnindex.runs import RunIndex
 
 
 def nothing_much():
@@ -25,6 +27,7 @@ def some_of_each_kind():
         errors.TurnError, errors.NoText, errors.NoText("a"), errors.NoRow("$"), errors.NoNumber(1),
         errors.NoCounts({"a": 1}), errors.NoOrder((0,)), errors.NoSampling((0,)), errors.NoMarks((0,)),
         errors.NoShape("a"), errors.Unordered(("b", "a")),
+        Index, RunIndex, Index(("a",)), RunIndex("a"), Index(("a",)).search, RunIndex.size,
     ]
     objects.append(["a" * 10, objects[:5]])
     return objects

@@ -80,6 +80,21 @@ def plain_steps(row):
     )
 
 
+def places_of(part, text):
+    """All places at which a part stands in a text; the empty one stands at len(text), too."""
+    return [i for i in range(len(text) - len(part) + 1) if text[i:i + len(part)] == part]
+
+
+def parts_of_text(text):
+    """All unlike parts of a text, sorted, the empty one too."""
+    return sorted({text[i:j] for i in range(len(text) + 1) for j in range(i, len(text) + 1)})
+
+
+def suffixes_in_order(texts):
+    """(number of the text, place in it) of all suffixes, in their order."""
+    return [(number, place) for _, _, number, place in sorted_things(texts, ())]
+
+
 def all_rows(signs, most):
     """All rows of these signs of at most so many of them."""
     return texts_up_to(signs, most)

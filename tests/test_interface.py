@@ -39,6 +39,47 @@ FUNCTIONS = {
         "orders_number": ["order", "letters"],
         "has_order": ["text", "order"],
     },
+    "turnindex.samples": {
+        "locate": ["text", "samples", "place"],
+        "most_steps": ["length", "samples"],
+        "least_samples": ["length", "steps"],
+        "samplings_number": ["length", "steps"],
+        "first_sampling": ["length", "steps"],
+    },
+    "turnindex.runs": {
+        "runs": ["row"],
+        "ring_runs": ["word"],
+        "reaches": ["word"],
+    },
+    "turnindex.neighbours": {
+        "commons": ["text"],
+        "parts_number": ["text"],
+        "parts_by_length": ["text"],
+        "repeats": ["text"],
+        "longest_repeat": ["text"],
+        "shortest_alone": ["text"],
+        "statistics": ["text", "other"],
+    },
+}
+CLASSES = {
+    ("turnindex.indexes", "Index"): {
+        "__init__": ["texts"],
+        "rank": ["letter", "place"],
+        "begin": ["letter"],
+        "search": ["pattern"],
+        "count": ["pattern"],
+        "texts_with": ["pattern"],
+        "suffix_at": ["place"],
+        "extract": ["number", "begin", "end"],
+    },
+    ("turnindex.runs", "RunIndex"): {
+        "__init__": ["text"],
+        "size": [],
+        "ahead": ["place"],
+        "kept": [],
+        "locate": ["pattern"],
+        "touched": ["part"],
+    },
 }
 
 
@@ -51,6 +92,17 @@ class InterfaceTest(unittest.TestCase):
                 self.assertTrue(inspect.isfunction(function))
                 self.assertEqual(function.__module__, module)
                 self.assertEqual(list(inspect.signature(function).parameters), arguments)
+
+    def test_classes(self):
+        for (module, name), methods in CLASSES.items():
+            made = getattr(importlib.import_module(module), name)
+            self.assertTrue(inspect.isclass(made))
+            self.assertEqual(made.__module__, module)
+            for method, arguments in methods.items():
+                # each method stands in the class itself
+                function = vars(made)[method]
+                self.assertTrue(inspect.isfunction(function))
+                self.assertEqual(list(inspect.signature(function).parameters), ["self"] + arguments)
 
 
 if __name__ == "__main__":

@@ -1,6 +1,6 @@
 """What the arguments of the package have to be, and the errors if they are not."""
 
-from turnindex.errors import NoCounts, NoNumber, NoOrder, NoRow, NoText
+from turnindex.errors import NoCounts, NoNumber, NoOrder, NoRow, NoSampling, NoText
 
 END = "$"
 LETTERS = "abcdefghijklmnopqrstuvwxyz"
@@ -54,6 +54,15 @@ def is_order(value):
     return sorted(value) == list(range(len(value)))
 
 
+def is_sampling(value, length):
+    """Tell whether the value is a sorted tuple of unlike places from 0 to the length, at least one."""
+    if not isinstance(value, tuple) or len(value) == 0:
+        return False
+    if not all([is_number_between(place, 0, length) for place in value]):
+        return False
+    return list(value) == sorted(set(value))
+
+
 def check_text(text):
     """Raise NoText if this is no text."""
     if not is_text(text):
@@ -64,6 +73,12 @@ def check_word(word):
     """Raise NoText if this is no text or the empty one."""
     if not is_word(word):
         raise NoText(word)
+
+
+def check_letter(letter):
+    """Raise NoText if this is no text of one letter."""
+    if not is_letter(letter):
+        raise NoText(letter)
 
 
 def check_texts(texts):
@@ -110,3 +125,14 @@ def check_order(order):
     """Raise NoOrder if this is no order."""
     if not is_order(order):
         raise NoOrder(order)
+
+
+def check_length(length):
+    """Raise NoNumber if this is no length that a text may have."""
+    check_number_between(length, 0, MOST_LETTERS)
+
+
+def check_sampling(samples, length):
+    """Raise NoSampling if this is no sampling of a text of this length."""
+    if not is_sampling(samples, length):
+        raise NoSampling(samples)
