@@ -60,6 +60,31 @@ FUNCTIONS = {
         "shortest_alone": ["text"],
         "statistics": ["text", "other"],
     },
+    "turnindex.absent": {
+        "least_absent": ["text", "letters"],
+        "text_of_absent": ["words", "letters"],
+    },
+    "turnindex.alike": {
+        "parts_of": ["text", "k"],
+        "alike": ["one", "other", "k"],
+        "parting": ["one", "other"],
+        "alike_number": ["text", "k"],
+        "alone": ["text"],
+        "another": ["text", "k"],
+        "exchange": ["text", "k"],
+        "ways": ["one", "other", "k"],
+    },
+    "turnindex.balanced": {
+        "row_is_by": ["word", "letters"],
+        "against": ["word", "letters"],
+        "is_balanced": ["word"],
+        "unbalanced": ["word"],
+        "balanced_ring": ["p", "q"],
+        "fall_rings": ["counts"],
+        "least_runs": ["p", "q"],
+        "has_all_words": ["word", "letters", "k"],
+        "all_words_number": ["s", "k"],
+    },
 }
 CLASSES = {
     ("turnindex.indexes", "Index"): {

@@ -22,6 +22,21 @@ def is_letter(value):
     return is_text(value) and len(value) == 1
 
 
+def is_letters(value):
+    """Tell whether the value is a text of unlike letters, also the empty one."""
+    return is_text(value) and len(set(value)) == len(value)
+
+
+def is_sorted_letters(value):
+    """Tell whether the value is a text of sorted, unlike letters, also the empty one."""
+    return is_letters(value) and list(value) == sorted(value)
+
+
+def is_over(text, letters):
+    """Tell whether the text has none but these letters."""
+    return all([letter in letters for letter in text])
+
+
 def is_row(value):
     """Tell whether the value is a row of letters and ends."""
     return isinstance(value, str) and all([sign == END or sign in LETTERS for sign in value])
@@ -95,6 +110,24 @@ def check_words(words):
         raise NoText(words)
     for word in words:
         check_word(word)
+
+
+def check_letters(letters, text):
+    """Raise NoText if this is no text of unlike letters that has all those of the text."""
+    if not is_letters(letters) or not is_over(text, letters):
+        raise NoText(letters)
+
+
+def check_sorted_letters(letters, text):
+    """Raise NoText if this is no text of sorted, unlike letters that has all those of the text."""
+    if not is_sorted_letters(letters) or not is_over(text, letters):
+        raise NoText(letters)
+
+
+def check_word_over(word, letters):
+    """Raise NoText if this is no text of these letters or the empty one."""
+    if not is_word(word) or not is_over(word, letters):
+        raise NoText(word)
 
 
 def check_row(row):

@@ -1,5 +1,7 @@
 """What a text tells by the common beginnings of suffixes that are neighbours in the order."""
 
+from math import comb
+
 from turnindex.checks import check_text
 from turnindex.orders import order_of
 from turnindex.rows import row_of
@@ -15,7 +17,8 @@ def commons(text):
 def parts_number(text):
     """Give how many unlike parts, the empty one too, the text has."""
     check_text(text)
-    return sum(parts_by_length(text))
+    # Each suffix begins with as many parts as it has letters, of which those in common with its neighbour are not new.
+    return 1 + comb(len(text) + 1, 2) - sum(commons(text))
 
 
 def parts_by_length(text):
