@@ -5,6 +5,7 @@ import unittest
 from turnindex import errors
 from turnindex.indexes import Index
 from turnindex.runs import RunIndex
+from turnindex.trees import Tree
 
 
 def nothing_much():
@@ -28,6 +29,7 @@ def some_of_each_kind():
         errors.NoCounts({"a": 1}), errors.NoOrder((0,)), errors.NoSampling((0,)), errors.NoMarks((0,)),
         errors.NoShape("a"), errors.Unordered(("b", "a")),
         Index, RunIndex, Index(("a",)), RunIndex("a"), Index(("a",)).search, RunIndex.size,
+        Tree, Tree("a", ("a", "b")), Tree("", "a").access,
     ]
     objects.append(["a" * 10, objects[:5]])
     return objects

@@ -2,7 +2,7 @@
 
 from collections import Counter
 from functools import cmp_to_key
-from itertools import product
+from itertools import permutations, product
 
 
 def texts_up_to(letters, most):
@@ -119,3 +119,33 @@ def cut(word, pieces, seed):
     numbers = numbers_below(0, len(word) + 1, seed)
     places = sorted(next(numbers) for _ in range(pieces - 1))
     return tuple(word[i:j] for i, j in zip([0] + places, places + [len(word)]))
+
+
+def shapes_in_order(letters):
+    """All shapes in which these letters stand from left to right."""
+    if len(letters) == 1:
+        return [letters]
+    cuts = range(1, len(letters))
+    return [
+        (left, right) for k in cuts for left in shapes_in_order(letters[:k]) for right in shapes_in_order(letters[k:])
+    ]
+
+
+def all_shapes(letters):
+    """All shapes of just these letters."""
+    return [shape for each in permutations(letters) for shape in shapes_in_order("".join(each))]
+
+
+def depths(shape, depth=0):
+    """The depth of each letter of a shape."""
+    if isinstance(shape, str):
+        return {shape: depth}
+    return {**depths(shape[0], depth + 1), **depths(shape[1], depth + 1)}
+
+
+def comb_shape(letters):
+    """The deepest shape of these letters: each stands to the left of all later ones."""
+    shape = letters[-1]
+    for letter in reversed(letters[:-1]):
+        shape = (letter, shape)
+    return shape

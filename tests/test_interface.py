@@ -85,6 +85,23 @@ FUNCTIONS = {
         "has_all_words": ["word", "letters", "k"],
         "all_words_number": ["s", "k"],
     },
+    "turnindex.merging": {
+        "merge": ["one", "other"],
+        "agreeing": ["texts", "others"],
+        "part": ["row", "marks"],
+    },
+    "turnindex.edits": {
+        "put_ahead": ["row", "letter"],
+        "take_ahead": ["row"],
+        "turned": ["one", "other"],
+        "least_moves": ["one", "other"],
+        "stays": ["one", "other"],
+    },
+    "turnindex.shapes": {
+        "cost": ["shape", "weights"],
+        "least_shape": ["weights"],
+        "least_ordered": ["weights"],
+    },
 }
 CLASSES = {
     ("turnindex.indexes", "Index"): {
@@ -104,6 +121,14 @@ CLASSES = {
         "kept": [],
         "locate": ["pattern"],
         "touched": ["part"],
+    },
+    ("turnindex.trees", "Tree"): {
+        "__init__": ["text", "shape"],
+        "access": ["place"],
+        "rank": ["letter", "place"],
+        "select": ["letter", "k"],
+        "least": ["begin", "end", "k"],
+        "between": ["begin", "end", "low", "high"],
     },
 }
 

@@ -1,6 +1,6 @@
 """What the arguments of the package have to be, and the errors if they are not."""
 
-from turnindex.errors import NoCounts, NoNumber, NoOrder, NoRow, NoSampling, NoText
+from turnindex.errors import NoCounts, NoMarks, NoNumber, NoOrder, NoRow, NoSampling, NoShape, NoText
 
 END = "$"
 LETTERS = "abcdefghijklmnopqrstuvwxyz"
@@ -76,6 +76,29 @@ def is_sampling(value, length):
     if not all([is_number_between(place, 0, length) for place in value]):
         return False
     return list(value) == sorted(set(value))
+
+
+def is_marks(value, length):
+    """Tell whether the value is a tuple of so many integers 0 and 1."""
+    if not isinstance(value, tuple) or len(value) != length:
+        return False
+    return all([is_number_between(mark, 0, 1) for mark in value])
+
+
+def is_shape(value):
+    """Tell whether the value is a letter or a pair of shapes, with each letter at most once."""
+    letters = []
+    waiting = [value]
+    # No letter may stand twice, so this comes to an end soon, whatever is nested in what.
+    while len(waiting) > 0:
+        part = waiting.pop()
+        if isinstance(part, tuple) and len(part) == 2:
+            waiting.extend(part)
+        elif is_letter(part) and part not in letters:
+            letters.append(part)
+        else:
+            return False
+    return True
 
 
 def check_text(text):
@@ -169,3 +192,21 @@ def check_sampling(samples, length):
     """Raise NoSampling if this is no sampling of a text of this length."""
     if not is_sampling(samples, length):
         raise NoSampling(samples)
+
+
+def check_marks(marks, length):
+    """Raise NoMarks if this is no tuple of so many integers 0 and 1."""
+    if not is_marks(marks, length):
+        raise NoMarks(marks)
+
+
+def check_shape(shape):
+    """Raise NoShape if this is no shape."""
+    if not is_shape(shape):
+        raise NoShape(shape)
+
+
+def check_weights(weights):
+    """Raise NoCounts if these are no counts with at least one letter."""
+    if not is_counts(weights) or len(weights) == 0:
+        raise NoCounts(weights)
